@@ -1,0 +1,1 @@
+"""Plugproof: a file system that stands, whenever the plug is pulled."""

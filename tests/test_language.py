@@ -1,0 +1,260 @@
+"""The rules of the language that a look at the package's files can tell, and the interface's names."""
+
+import ast
+import builtins
+import pathlib
+import re
+import unittest
+
+PACKAGE = pathlib.Path(__file__).resolve().parent.parent / "plugproof"
+FILES = sorted(path for path in PACKAGE.rglob("*") if "__pycache__" not in path.parts and path.is_file())
+
+ALLOWED_BUILTINS = set(
+    "len range enumerate zip min max sum abs sorted reversed int str bool bytes list tuple dict set isinstance ord repr"
+    " any all divmod pow map iter next True False None Exception ValueError TypeError KeyError IndexError LookupError"
+    " ZeroDivisionError ArithmeticError OverflowError RuntimeError NotImplementedError AttributeError StopIteration"
+    " NotImplemented".split()
+)
+METHODS = set(
+    "append clear copy count endswith extend find get index insert isalnum isalpha isdigit islower isspace isupper items"
+    " join keys ljust lower lstrip partition pop remove replace reverse rfind rjust rpartition rsplit rstrip setdefault"
+    " split splitlines startswith strip update upper values zfill bit_length".split()
+)
+DUNDERS = {"__init__", "__eq__", "__repr__", "__str__", "__len__"}
+NEVER_NAMES = set("register mro elements open input law version_info with_traceback add_note".split())
+BARRED_NAMES = NEVER_NAMES | set(
+    "attrgetter breakpoint builtins compile copyright credits delattr dir eval exec exit gc getattr globals hasattr help"
+    " id importlib license locals methodcaller os quit setattr super type vars sys chr".split()
+)
+BARRED_WORDS = set(
+    "type typing typing_extensions enum Enum IntEnum StrEnum Flag IntFlag Generic Protocol ABC ABCMeta namedtuple"
+    " NamedTuple TypedDict TYPE_CHECKING abstractmethod dataclass overload contextmanager _wall _WallAttr".split()
+)
+BARRED_STARTS = re.compile("(_wall|_pe_|_dcw_|_enum_|_cm_|_twin_re_|_lay_|_law_|_stub_|_sre|_WallAttr)")
+BARRED_NODES = (
+    ast.Global, ast.AsyncFunctionDef, ast.AsyncFor, ast.AsyncWith, ast.Await, ast.Yield, ast.YieldFrom, ast.GeneratorExp,
+    ast.Set, ast.SetComp, ast.Div, ast.MatMult, ast.Delete, ast.Import, ast.AnnAssign, ast.TryStar,
+)
+
+INTERFACE = {
+    "errors": "StoreError BadShape(word) Refused(word) BadScript(line,word) BadImage(line,word)",
+    "storeerrors": "BadPlate(plate) BadCells(plate) TooGreat(many) BadChoice(plate) NoHead BadMoment(many)"
+                   " BadPrices(unit)",
+    "shape": "WIDTH= NAMES= MOST_BLOCKS= MOST_SIZE= ROOT= FOUND= is_whole(thing,low,high) is_name(thing)"
+             " number_of(name) name_of(number) Shape(dirs,rows,files,blocks,users) Shape.told() Shape.clock_cell()"
+             " Shape.dir_cell(number) Shape.row_cell(number) Shape.user_cell(user) Shape.file_plate(file)"
+             " Shape.block_plate(block) Shape.empty_home() Shape.__eq__(other)",
+    "plates": "is_cells(value) checked_changes(plates,changes)",
+    "disk": "TORN= Disk(many) Disk.write(plate,value) Disk.barrier() Disk.now(plate) Disk.versions(plate)"
+            " Disk.count_falls() Disk.fallen(choice) disk_after(disk,trace,moment)",
+    "heads": "head_plate(number) is_head(plate,value) read_head(disk)",
+    "log": "slot_plate(slots,slot) log_rows(group,changes) is_log_plate(value) whole_group(disk,slots,slot,group)"
+           " read_groups(disk,slots,head) last_seen(disk,slots)",
+    "store": "home_plate(slots,plate) Store(plates,slots,disk) Store.home() Store.block(plate) Store.disk()"
+             " Store.put(changes) Store.push() Store.sync() Store.lay() fresh_store(plates,slots,home)"
+             " open_store(disk,plates,slots)",
+    "falls": "written_groups(store,moment) settled_groups(store,moment) can_open(store,moment)"
+             " opened_deeds(store,moment,choice) choice_for(store,moment,deeds) fallen_disk(store,moment,choice)",
+    "twins": "best_head(disk) joined_disk(disks,plates,slots) Twins(disks,plates,slots) Twins.trace(which)"
+             " Twins.moments() Twins.disk_at(which,moment) fresh_twins(plates,slots,home)"
+             " open_twins(disks,plates,slots) fallen_twins(twins,moment,choices) opened_twins(twins,moment,choices)",
+}
+
+
+def trees():
+    return [(path, ast.parse(path.read_text())) for path in FILES]
+
+
+def bound_names(tree):
+    """The pairs (name, node) of what a file binds: variables, parameters, functions, classes, imports."""
+    names = []
+    for node in ast.walk(tree):
+        if isinstance(node, ast.Name) and isinstance(node.ctx, ast.Store):
+            names.append((node.id, node))
+        elif isinstance(node, ast.arg):
+            names.append((node.arg, node))
+        elif isinstance(node, (ast.FunctionDef, ast.ClassDef)):
+            names.append((node.name, node))
+        elif isinstance(node, ast.alias):
+            names.append((node.asname or node.name, node))
+    return names
+
+
+def methods_of(tree):
+    classes = [node for node in ast.walk(tree) if isinstance(node, ast.ClassDef)]
+    return {(owner.name, node.name) for owner in classes for node in owner.body if isinstance(node, ast.FunctionDef)}
+
+
+def told_names(tree):
+    """What a file defines, as the interface's table tells it."""
+    told = set()
+    for node in tree.body:
+        if isinstance(node, ast.Assign):
+            told.add(node.targets[0].id + "=")
+        elif isinstance(node, ast.FunctionDef):
+            told.add(f"{node.name}({','.join(arg.arg for arg in node.args.args)})")
+        elif isinstance(node, ast.ClassDef):
+            told |= told_of_class(node)
+    return told
+
+
+def told_of_class(owner):
+    told = {owner.name}
+    for node in owner.body:
+        if isinstance(node, ast.FunctionDef):
+            arguments = ",".join(arg.arg for arg in node.args.args[1:])
+            told.add(f"{owner.name}({arguments})" if node.name == "__init__" else f"{owner.name}.{node.name}({arguments})")
+    return told
+
+
+class FilesTest(unittest.TestCase):
+    def test_names_and_sizes(self):
+        self.assertIn(PACKAGE / "__init__.py", FILES)
+        self.assertLessEqual(len(FILES), 100)
+        for path in FILES:
+            with self.subTest(path=path.name):
+                self.assertRegex(path.name, r"^[a-z_][a-z0-9_]*\.py$")
+                text = path.read_bytes().decode("ascii")
+                self.assertTrue(all(sign == "\n" or " " <= sign <= "~" for sign in text))
+                lines = text.split("\n")
+                self.assertLessEqual(len(lines), 399)
+                self.assertLessEqual(max(len(line) for line in lines), 120)
+
+    def test_sizes_of_functions(self):
+        for path, tree in trees():
+            for node in ast.walk(tree):
+                if isinstance(node, ast.FunctionDef):
+                    self.assertLessEqual(node.end_lineno - node.lineno + 1, 40, f"{path.name}: {node.name}")
+
+    def test_strings(self):
+        for path, tree in trees():
+            for node in ast.walk(tree):
+                if isinstance(node, ast.Constant) and isinstance(node.value, str):
+                    self.assertNotIn("%", node.value, path.name)
+                    self.assertFalse(node.value.endswith(("._", ".__")), path.name)
+                if isinstance(node, ast.Constant):
+                    self.assertNotIsInstance(node.value, (float, complex, bytes), path.name)
+
+    def test_module_level(self):
+        for path, tree in trees():
+            self.assertIsNotNone(ast.get_docstring(tree), path.name)
+            for node in tree.body[1:]:
+                self.assertIsInstance(node, (ast.ImportFrom, ast.FunctionDef, ast.ClassDef, ast.Assign), path.name)
+                if isinstance(node, ast.Assign):
+                    self.assertIsInstance(node.targets[0], ast.Name)
+                    self.assertEqual(len(node.targets), 1)
+
+
+class ImportsTest(unittest.TestCase):
+    def test_each_names_the_file_that_defines_the_name(self):
+        defined = {path.stem: {name.rstrip("=").split("(")[0] for name in told_names(tree)} for path, tree in trees()}
+        for path, tree in trees():
+            for node in ast.walk(tree):
+                if isinstance(node, ast.ImportFrom):
+                    self.assertIn(node, tree.body)
+                    self.assertEqual((node.level, node.module.split(".")[0]), (0, "plugproof"))
+                    for alias in node.names:
+                        self.assertIsNone(alias.asname)
+                        self.assertIn(alias.name, defined[node.module.split(".")[1]], path.name)
+
+    def test_no_two_files_import_from_each_other(self):
+        imports = {}
+        for path, tree in trees():
+            nodes = [node for node in tree.body if isinstance(node, ast.ImportFrom)]
+            imports[path.stem] = {node.module.split(".")[1] for node in nodes}
+        left = dict(imports)
+        while left:
+            free = [name for name in left if not left[name] & set(left)]
+            self.assertTrue(free, left)
+            left = {name: left[name] for name in left if name not in free}
+
+    def test_what_is_imported_is_used_and_not_named_again(self):
+        for path, tree in trees():
+            imported = {alias.name for node in tree.body if isinstance(node, ast.ImportFrom) for alias in node.names}
+            used = {node.id for node in ast.walk(tree) if isinstance(node, ast.Name)}
+            self.assertEqual(imported - used, set(), path.name)
+            names = [name for name, node in bound_names(tree) if not isinstance(node, ast.alias)]
+            self.assertEqual(imported & set(names), set(), path.name)
+
+
+class WordsTest(unittest.TestCase):
+    def test_builtins(self):
+        for path, tree in trees():
+            used = {node.id for node in ast.walk(tree) if isinstance(node, ast.Name)}
+            self.assertEqual((used & set(dir(builtins))) - ALLOWED_BUILTINS, set(), path.name)
+
+    def test_no_name_is_bound_anew_that_means_something_else(self):
+        for path, tree in trees():
+            methods = {name for _, name in methods_of(tree)}
+            for name, node in bound_names(tree):
+                if isinstance(node, ast.FunctionDef) and name in methods and name in DUNDERS:
+                    continue
+                self.assertNotIn(name, dir(builtins), path.name)
+                self.assertNotIn(name, BARRED_NAMES, path.name)
+                self.assertRegex(name, r"^_?[A-Za-z][A-Za-z0-9_]*$|^_$")
+                self.assertIsNone(BARRED_STARTS.match(name), path.name)
+
+    def test_attributes(self):
+        own = {name for _, tree in trees() for _, name in methods_of(tree)}
+        for path, tree in trees():
+            for node in ast.walk(tree):
+                if isinstance(node, ast.Attribute):
+                    self.assertNotIn(node.attr, NEVER_NAMES | {"args", "sort", "format"}, path.name)
+                    self.assertFalse(node.attr.startswith("__"), path.name)
+                if isinstance(node, ast.Call) and isinstance(node.func, ast.Attribute):
+                    self.assertIn(node.func.attr, own | METHODS, path.name)
+
+    def test_words_that_stand_nowhere(self):
+        for path, tree in trees():
+            names = [node.id for node in ast.walk(tree) if isinstance(node, ast.Name)]
+            names += [node.attr for node in ast.walk(tree) if isinstance(node, ast.Attribute)]
+            names += [name for name, _ in bound_names(tree)]
+            self.assertEqual(set(names) & BARRED_WORDS, set(), path.name)
+
+    def test_statements_and_expressions(self):
+        for path, tree in trees():
+            for node in ast.walk(tree):
+                self.assertNotIsInstance(node, BARRED_NODES, path.name)
+                if isinstance(node, (ast.FunctionDef, ast.ClassDef)):
+                    self.assertEqual(node.decorator_list, [], path.name)
+                if isinstance(node, ast.ClassDef):
+                    self.assertIn(node, tree.body)
+
+    def test_each_error_is_made_on_the_spot_and_caught_by_an_own_name(self):
+        errors = {name for path, tree in trees() if path.stem in ("errors", "storeerrors") for name in told_names(tree)}
+        for path, tree in trees():
+            for node in ast.walk(tree):
+                if isinstance(node, ast.Raise):
+                    self.assertIn(node.exc.func.id, errors, path.name)
+                if isinstance(node, ast.ExceptHandler):
+                    self.assertIn(node.type.id, errors | {"KeyError"}, path.name)
+
+    def test_is_stands_beside_none_true_and_false(self):
+        for path, tree in trees():
+            for node in ast.walk(tree):
+                if isinstance(node, ast.Compare) and isinstance(node.ops[0], (ast.Is, ast.IsNot)):
+                    self.assertIsInstance(node.comparators[0], ast.Constant, path.name)
+
+    def test_each_function_and_class_says_what_it_is(self):
+        for path, tree in trees():
+            for node in ast.walk(tree):
+                if isinstance(node, ast.ClassDef):
+                    self.assertIsNotNone(ast.get_docstring(node), f"{path.name}: {node.name}")
+                if isinstance(node, ast.FunctionDef) and not node.name.startswith("_"):
+                    self.assertIsNotNone(ast.get_docstring(node), f"{path.name}: {node.name}")
+
+
+class InterfaceTest(unittest.TestCase):
+    def test_names_and_arguments(self):
+        told = {path.stem: told_names(tree) for path, tree in trees()}
+        for module, names in INTERFACE.items():
+            for name in names.split():
+                self.assertIn(name, told[module], module)
+
+    def test_defaults(self):
+        from plugproof.shape import is_whole
+        self.assertEqual(is_whole.__defaults__, (None, None))
+
+
+if __name__ == "__main__":
+    unittest.main()
