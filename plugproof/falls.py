@@ -54,7 +54,7 @@ def can_open(store, moment):
 
 
 def deeds_left(store, moment, choices):
-    """The deeds of the most groups whose plates one of the choices or other leaves, or are settled."""
+    """The deeds of the most groups each plate of which is settled, or left at its version by some choice."""
     check_moment(moment, len(store.trace))
     for event, plate, number in loose_writes(store.trace, moment):
         # Groups are pushed one behind the other: none from this event on counts.

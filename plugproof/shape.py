@@ -9,6 +9,8 @@ MOST_SIZE = 600
 ROOT = 0
 FOUND = 1
 
+# Behind the clock's plate.
+FIRST_DIR = 1
 LETTERS = "abcdefghijklmnopqrstuvwxyz"
 MOST_LETTERS = 4
 RANGES = (("dirs", 2, 40), ("rows", 1, 60), ("files", 1, 40), ("blocks", 1, 200), ("users", 1, 4))
@@ -67,7 +69,7 @@ class Shape:
         self.files = files
         self.blocks = blocks
         self.users = users
-        self.first_row = self.dir_cell(0)[0] + plates_for(dirs)
+        self.first_row = FIRST_DIR + plates_for(dirs)
         self.first_user = self.first_row + plates_for(rows)
         self.first_file = self.first_user + plates_for(users)
         self.first_block = self.first_file + files
@@ -86,7 +88,7 @@ class Shape:
 
     def dir_cell(self, number):
         """The place of a directory's cell: its plate, and its place there."""
-        return 1 + number // WIDTH, number % WIDTH
+        return FIRST_DIR + number // WIDTH, number % WIDTH
 
     def row_cell(self, number):
         """The place of a row's cell: its plate, and its place there."""

@@ -4,11 +4,11 @@ from plugproof.disk import Disk, copy_of
 from plugproof.heads import HEAD_PLATES, head_plate, read_head
 from plugproof.log import last_seen, log_rows, read_groups, slot_plate, slots_of
 from plugproof.plates import checked_changes, is_cells
-from plugproof.shape import WIDTH, is_whole
+from plugproof.shape import is_whole
 from plugproof.storeerrors import BadPlate, TooGreat
 
 FIRST_HEAD = (0, 0, 0)
-NOUGHTS = (0,) * WIDTH
+NOUGHTS = (0, 0, 0, 0, 0, 0, 0, 0)
 
 
 def home_plate(slots, plate):
@@ -137,10 +137,12 @@ class Store:
         self.groups = ()
 
     def _write(self, plate, value):
+        """One more event: something is written, loosely."""
         self._disk.write(plate, value)
         self.trace = self.trace + (("write", plate, value),)
 
     def _barrier(self):
+        """One more event: a barrier, which settles all deeds that were pushed."""
         self._disk.barrier()
         self.trace = self.trace + (("barrier",),)
         if len(self.pushed) > 0:

@@ -218,6 +218,11 @@ class TracesTest(unittest.TestCase):
     def test_no_events(self):
         self.assertEqual(stands(disk_after(self.disk, (), 0)), stands(self.disk))
 
+    def test_a_value_that_is_the_word_of_an_event(self):
+        trace = (("write", 0, "barrier"), ("write", 1, BARRIER), ("write", 1, "write"))
+        late = disk_after(self.disk, trace, 3)
+        self.assertEqual(stands(late), (("settled", ()), ((1, "loose"), (0, "barrier"), (1, BARRIER), (1, "write"))))
+
     def test_moments_that_are_none(self):
         for moment in (-1, 6, True, False, None, "0", 1.0):
             with self.assertRaises(BadMoment) as caught:

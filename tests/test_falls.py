@@ -90,6 +90,14 @@ class CountsTest(unittest.TestCase):
         self.assertEqual(choice_for(store, 3, 4), {})
         self.assertRaises(BadMoment, choice_for, store, 3, 2)
 
+    def test_true_is_no_number_of_deeds(self):
+        store = fresh_store(1, 4, first_home(1))
+        store.put({0: cells(1)})
+        store.push()
+        self.assertEqual(choice_for(store, 1, 1), {2: 1})
+        self.assertRaises(BadMoment, choice_for, store, 1, True)
+        self.assertRaises(BadMoment, choice_for, store, 1, False)
+
     def test_fallen_disk(self):
         store = fresh_store(1, 2, first_home(1))
         store.put({0: cells(1)})

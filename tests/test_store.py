@@ -225,6 +225,13 @@ class PutTest(unittest.TestCase):
         self.assertEqual(self.store.groups, ((0, 0, ((0, B), (1, C))),))
         self.assertEqual((self.store.deeds, self.store.home()), (4, {0: B, 1: C, 2: A}))
 
+    def test_a_group_has_its_home_plates_ascending(self):
+        self.store.put({2: A})
+        self.store.put({0: B})
+        self.store.push()
+        self.assertEqual(self.store.trace, (write(2, row(0, 0, 2, 0, B)), write(3, row(0, 1, 2, 2, A))))
+        self.assertEqual(self.store.groups, ((0, 0, ((0, B), (2, A))),))
+
     def test_a_deed_that_changes_nothing_is_a_deed(self):
         self.store.put({0: cells(-1)})
         self.store.sync()

@@ -104,6 +104,7 @@ class OpenedTest(unittest.TestCase):
         )
         twins = Twins(disks=disks, plates=2, slots=2)
         self.assertIsInstance(twins, Twins)
+        self.assertEqual(Twins(list(disks), 2, 2).begins, disks)
         self.assertIsInstance(open_twins(disks=disks, plates=2, slots=2), Twins)
         self.assertIs(twins.begins[0], disks[0])
         self.assertIs(twins.begins[1], disks[1])
