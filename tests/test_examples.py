@@ -45,6 +45,25 @@ FALLS = """
 ({2: 1}, 0, 3)
 """
 
+MENDING = """
+>>> from plugproof.mending import mended
+>>> from plugproof.parts import count_lots, least_price
+>>> from plugproof.shape import NAMES, Shape
+>>> shape = Shape(5, 1, 1, 1, 1)
+>>> home = shape.empty_home()
+>>> home[1] = (0, 0, 1 + 3 * NAMES, 1 + 4 * NAMES, 1 + 2 * NAMES, 0, 0, 0)
+>>> least_price(shape, home, {}), count_lots(shape, home, {})
+(1, 3)
+>>> mended(shape, home, {("dir", 2): 5, ("dir", 3): 4}).units
+(('dir', 4),)
+>>> from plugproof.papers import Paper, paper_holds, paper_of
+>>> paper = paper_of(shape, home, {})
+>>> paper.needs, [(part.kind, part.dirs) for part in paper.parts]
+((1,), [('ring', (2, 3, 4))])
+>>> paper_holds(shape, home, {}, paper), paper_holds(shape, home, {}, Paper(paper.parts, paper.needs, ()))
+(True, False)
+"""
+
 
 class ExamplesTest(unittest.TestCase):
     def holds(self, text):
@@ -62,6 +81,9 @@ class ExamplesTest(unittest.TestCase):
 
     def test_falls(self):
         self.holds(FALLS)
+
+    def test_mending(self):
+        self.holds(MENDING)
 
     def test_readme(self):
         blocks = README.read_text().split("```")[1::2]
