@@ -76,7 +76,7 @@ def read_line(line, words, low, many, kinds):
 def read_disk(lines):
     """The disk that lines tell; BadImage for the first word that cannot stand there."""
     many = read_many(lines)
-    settled = Disk(many)
+    disk = Disk(many)
     loose = []
     low = 0
     for line in range(1, len(lines)):
@@ -85,9 +85,10 @@ def read_disk(lines):
         if kind == "loose":
             loose.append((plate, value))
         else:
-            settled.write(plate, value)
+            disk.write(plate, value)
             low = plate + 1
-    settled.barrier()
+    # What the plate lines tell is settled; only then what is loose is written over it.
+    disk.barrier()
     for plate, value in loose:
-        settled.write(plate, value)
-    return settled
+        disk.write(plate, value)
+    return disk

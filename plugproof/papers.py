@@ -33,20 +33,18 @@ def are_units(shape, thing):
     return all([thing.count(unit) == 1 for unit in thing])
 
 
-def is_part(shape, known, thing):
+def is_part(known, thing):
     """Whether any thing is one of the known parts."""
-    if not isinstance(thing, Part) or not are_units(shape, thing.units):
+    if not isinstance(thing, Part) or thing not in known:
         return False
     # True is no directory, though it is equal to 1.
-    if not isinstance(thing.dirs, tuple) or not all([is_whole(number) for number in thing.dirs]):
-        return False
-    return thing in known
+    return all([is_whole(number) for number in thing.dirs])
 
 
 def are_parts(shape, home, things):
     """Whether any thing is a tuple of parts, no two with a common unit."""
     known = parts_of(shape, home)
-    if not isinstance(things, tuple) or not all([is_part(shape, known, thing) for thing in things]):
+    if not isinstance(things, tuple) or not all([is_part(known, thing) for thing in things]):
         return False
     return are_units(shape, tuple([unit for part in things for unit in part.units]))
 

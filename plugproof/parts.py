@@ -83,7 +83,7 @@ def ring_ways(prices, ring, leaving):
     kept = list(leaving)
     for number in ring:
         unit = (DIR, number)
-        at = [place for place, (group, left) in enumerate(leaving) if unit in group][0]
+        at = [place for place, (units, left) in enumerate(leaving) if unit in units][0]
         group = leaving[at][0]
         way = list(kept)
         way[at] = (group, dearest(prices, tuple([other for other in group if other != unit])))

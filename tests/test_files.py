@@ -287,6 +287,26 @@ class CleanTest(unittest.TestCase):
         self.disk.cut(0, 40)
         self.many(96)
 
+    def test_holes_need_no_blocks(self):
+        for size in (599, 100, 90, 88, 33, 24, 3):
+            self.disk.cut(0, 600)
+            self.disk.cut(0, size)
+            self.disk.grow(0, 600)
+            self.many(100)
+        self.disk.write(0, 599, (1,))
+        self.disk.cut(0, 597)
+        self.many(97)
+        self.disk.cut(0, 100)
+        self.many(99)
+
+    def test_a_part_with_0s_behind_the_size_stays_shared(self):
+        for size in (4, 20):
+            self.disk.write(0, 0, range(1, size + 1))
+            self.disk.share(0, 1)
+            self.disk.grow(1, 24)
+            self.many(100 - -(-size // 8))
+            self.disk.drop(1)
+
     def test_times(self):
         self.disk.write(0, 0, (1, 2))
         draft = self.disk.step(put_time, 0, 99)

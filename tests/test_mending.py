@@ -11,7 +11,7 @@ from homes import (
 
 from plugproof.disk import disk_after
 from plugproof.falls import fallen_disk
-from plugproof.mending import mended, price_between
+from plugproof.mending import mended, moved_to_found, price_between
 from plugproof.parts import least_price
 from plugproof.places import is_right
 from plugproof.readings import named_files, row_at
@@ -131,6 +131,12 @@ class MendedTest(unittest.TestCase):
         result = self.holds_for(SHAPE, home, {})
         self.assertEqual(result.units, (("dir", 9),))
         self.assertEqual(result.plates[2], (0, 1 + NAMES + number_of("a")) + (0,) * 6)
+
+    def test_free_units_that_are_moved(self):
+        home = home_with(SHAPE, {2: (0, "b")})
+        put_cell(home, SHAPE.row_cell(10), -44)
+        late = moved_to_found(SHAPE, home, [("row", 10), ("dir", 9), ("dir", 2)])
+        self.assertEqual(late, home_with(SHAPE, {2: (1, "b"), 9: (1, "a")}, {10: (1, "a", 0)}))
 
     def test_a_right_home_is_left_alone(self):
         home = home_with(SHAPE, {2: (0, "a"), 3: (1, "a")}, {0: (1, "a", 1)}, {0: (-3,) * 8}, {1: (77,) * 8})

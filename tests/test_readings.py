@@ -110,7 +110,7 @@ class FilesTest(unittest.TestCase):
 
     def test_data_block(self):
         home = home_with(
-            SHAPE, files={1: (600, 0, 0, 1, 0, 13, 4, 5)},
+            SHAPE, files={1: (1, 1, 1, 1, 0, 13, 4, 5)},
             blocks={3: (2, 0, 3, -1, 13, 12, 4, 0), 4: (6, 0, 5, 99, 0, 0, 0, 7), 5: (8, 0, 9, 0, 0, 0, 0, 10),
                     6: (0, 0, 0, 0, 0, 0, 0, 11)},
         )
