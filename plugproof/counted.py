@@ -25,12 +25,17 @@ def take(draft, plate):
     return free[0] + 1
 
 
+def is_own(draft, block):
+    """Whether a block is met by one way alone, and read by no view."""
+    return draft.count(block) == 1 and block not in draft.pins
+
+
 def own(draft, pointer):
     """A pointer to a block with the same cells that is met by this way alone, and read by no view."""
     block = block_of(draft.shape, pointer)
     if block is None:
         return take(draft, (0,) * WIDTH)
-    if draft.count(block) == 1 and block not in draft.pins:
+    if is_own(draft, block):
         return pointer
     late = take(draft, draft.home[draft.shape.block_plate(block)])
     # What lies behind it keeps its counts: those ways lead through the copy now.

@@ -2,7 +2,7 @@
 
 from plugproof.disk import TORN, Disk
 from plugproof.errors import BadImage
-from plugproof.words import is_number_within, is_number_word
+from plugproof.words import is_number_within, is_number_word, word_at
 
 MOST_PLATES = 1000
 
@@ -39,11 +39,6 @@ def value_of(word):
     if word == "empty":
         return ()
     return tuple([int(part) for part in word.split(",")])
-
-
-def word_at(words, place):
-    """A word of a line; a lacking one is empty, which can stand nowhere."""
-    return words[place] if place < len(words) else ""
 
 
 def check_word(holds, line, word):

@@ -102,11 +102,16 @@ def keep_parts(draft, file, keep):
         first = first + PARTS_BEHIND[level]
 
 
+def has_rest(home, shape, file, size):
+    """Whether some number behind a size in its last part is not 0."""
+    rest = numbers_at(home, shape, file, size, plates_for(size) * WIDTH)
+    return any([number != 0 for number in rest])
+
+
 def clear_behind(draft, file, size):
     """The numbers behind a size in its last part become 0, if they are not."""
-    end = plates_for(size) * WIDTH
-    if any([number != 0 for number in numbers_at(draft.home, draft.shape, file, size, end)]):
-        write_part(draft, file, size // WIDTH, size, (0,) * (end - size))
+    if has_rest(draft.home, draft.shape, file, size):
+        write_part(draft, file, size // WIDTH, size, (0,) * (plates_for(size) * WIDTH - size))
 
 
 def grow(draft, file, size):

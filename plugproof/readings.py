@@ -125,19 +125,24 @@ def spot_of(number):
     return FIRST_POINTER + 4, behind // WIDTH, behind % WIDTH
 
 
-def data_block(home, shape, file, number):
-    """The block of a part, None for a hole or behind one."""
-    # No pointer leads to parts beyond the last: they are holes, too.
-    if not 0 <= number < MOST_BLOCKS:
-        return None
+def block_at(home, shape, file, spot):
+    """The block to which places lead, the first one on a file's plate; None for a hole or behind one."""
     block = None
     plate = shape.file_plate(file)
-    for place in spot_of(number):
+    for place in spot:
         block = block_of(shape, home[plate][place])
         if block is None:
             return None
         plate = shape.block_plate(block)
     return block
+
+
+def data_block(home, shape, file, number):
+    """The block of a part, None for a hole or behind one."""
+    # No pointer leads to parts beyond the last: they are holes, too.
+    if not 0 <= number < MOST_BLOCKS:
+        return None
+    return block_at(home, shape, file, spot_of(number))
 
 
 def part_at(home, shape, file, number):

@@ -18,3 +18,8 @@ def is_number_word(word):
 def is_number_within(word, low, high):
     """Whether a word is a whole number from low to high."""
     return is_number_word(word) and low <= int(word) <= high
+
+
+def word_at(words, place):
+    """A word of a line; a lacking one is empty, which can stand nowhere."""
+    return words[place] if place < len(words) else ""

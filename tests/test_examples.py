@@ -64,6 +64,76 @@ MENDING = """
 (True, False)
 """
 
+MORNING = """
+>>> from plugproof.audits import account
+>>> from plugproof.calls import done
+>>> from plugproof.plainstore import PlainStore
+>>> from plugproof.readings import tree_of
+>>> from plugproof.shape import Shape
+>>> from plugproof.system import System
+>>> shape = Shape(4, 4, 3, 6, 2)
+>>> system = System(shape, PlainStore(shape.empty_home()))
+>>> [done(system, call)[0] for call in (("make", 0, ("a",)), ("create", 1, ("a", "b")), ("open", 1, ("a", "b"), "write"))]
+['ok', 'ok', 'ok']
+>>> done(system, ("write", 1, 0, (5, 7))), tree_of(system.home(), shape)
+(('ok', None), ((('a', 'dir', (('b', 'file', 0, 1, 3, (5, 7)),)),), ()))
+>>> done(system, ("copy", 0, ("a",), ("c",))), system.free_many()
+(('ok', None), 5)
+>>> done(system, ("view", 0)), done(system, ("cut", 1, 0, 0)), done(system, ("view_read", 0, 0, ("a", "b")))
+(('ok', 0), ('ok', None), ('ok', (5, 7)))
+>>> done(system, ("open", 0, ("c", "b"), "append")), done(system, ("write", 0, 1, (9,)))
+(('ok', 1), ('ok', None))
+>>> tree_of(system.home(), shape)[0]
+(('a', 'dir', (('b', 'file', 0, 1, 5, ()),)), ('c', 'dir', (('b', 'file', 1, 0, 6, (5, 7, 9)),)))
+>>> system.free_many(), done(system, ("end_view", 0, 0)), system.free_many()
+(4, ('ok', None), 5)
+>>> account(system)[:2]
+(((), ()), (((1, 3),), ()))
+>>> done(system, ("unlink", 1, ("c", "b"))), done(system, ("seek", 0, 1, 0)), done(system, ("read", 0, 1, 9))
+(('ok', None), ('ok', None), ('ok', (5, 7, 9)))
+>>> system.free_many(), done(system, ("shut", 0, 1)), system.free_many()
+(5, ('ok', None), 6)
+"""
+
+NEEDS = """
+>>> from plugproof.needs import free_room, need_of_write
+>>> from plugproof.plainstore import PlainStore
+>>> from plugproof.scripts import run_script
+>>> from plugproof.shape import Shape
+>>> from plugproof.system import System
+>>> shape = Shape(4, 4, 3, 6, 2)
+>>> system = System(shape, PlainStore(shape.empty_home()))
+>>> run_script(system, "0 create /x")
+'ok -'
+>>> need_of_write(system, 0, 30, 1).told(), free_room(system).told()
+((2, 0, 0, 0), (6, 2, 3, 2))
+"""
+
+REBUILDING = r"""
+>>> from plugproof.plainstore import PlainStore
+>>> from plugproof.rebuilding import calls_of
+>>> from plugproof.scripts import run_script
+>>> from plugproof.shape import Shape
+>>> from plugproof.system import System
+>>> shape = Shape(4, 4, 3, 6, 2)
+>>> system = System(shape, PlainStore(shape.empty_home()))
+>>> run_script(system, "0 make /c\n0 make /a\n1 create /a/b\n0 link /a/b /d")
+'ok -\nok -\nok -\nok -'
+>>> calls_of(system.home(), shape)
+(('make', 0, ('a',)), ('create', 1, ('a', 'b')), ('make', 0, ('c',)), ('link', 0, ('a', 'b'), ('d',)))
+"""
+
+SCRIPTS = r"""
+>>> from plugproof.plainstore import PlainStore
+>>> from plugproof.scripts import run_script
+>>> from plugproof.shape import Shape
+>>> from plugproof.system import System
+>>> shape = Shape(4, 4, 3, 6, 2)
+>>> system = System(shape, PlainStore(shape.empty_home()))
+>>> run_script(system, "0 make /a\n1 create /a/b\n1 open /a/b write\n1 write 0 5,7\n0 tell /a/b\n0 move /a /a/c")
+'ok -\nok -\nok 0\nok -\nok (file 1 3 2 1)\nno loop'
+"""
+
 
 class ExamplesTest(unittest.TestCase):
     def holds(self, text):
@@ -84,6 +154,18 @@ class ExamplesTest(unittest.TestCase):
 
     def test_mending(self):
         self.holds(MENDING)
+
+    def test_morning(self):
+        self.holds(MORNING)
+
+    def test_needs(self):
+        self.holds(NEEDS)
+
+    def test_rebuilding(self):
+        self.holds(REBUILDING)
+
+    def test_scripts(self):
+        self.holds(SCRIPTS)
 
     def test_readme(self):
         blocks = README.read_text().split("```")[1::2]

@@ -38,6 +38,16 @@ BARRED_NODES = (
     ast.Set, ast.SetComp, ast.Div, ast.MatMult, ast.Delete, ast.Import, ast.AnnAssign, ast.TryStar,
 )
 
+# The calls of users, which a System and a Plain have.
+CALLS = (
+    "make(user,path) create(user,path) link(user,old,new) unlink(user,path) remove(user,path) move(user,old,new)"
+    " copy(user,old,new) list_dir(user,path) tell(user,path) give(user,path,owner) limit(user,other,many) sync(user)"
+    " open_file(user,path,mode) shut(user,number) read(user,number,many) write(user,number,numbers)"
+    " seek(user,number,at) cut(user,number,size) lock(user,number,kind) unlock(user,number) view(user)"
+    " view_list(user,number,path) view_read(user,number,path) view_tell(user,number,path) end_view(user,number)"
+    " check_user(user)"
+).split()
+
 INTERFACE = {
     "errors": "StoreError BadShape(word) Refused(word) BadScript(line,word) BadImage(line,word)",
     "storeerrors": "BadPlate(plate) BadCells(plate) TooGreat(many) BadChoice(plate) NoHead BadMoment(many)"
@@ -87,6 +97,19 @@ INTERFACE = {
              " put_dir(draft,number,up,name) put_row(draft,number,up,name,file) free_cell(draft,kind,number)",
     "copies": "free_file(draft,held) copy_row(draft,held,file,up,name,owner,time)"
               " copy_dir(draft,held,number,up,name,owner,time)",
+    "system": "System(shape,store) System.home() System.draft() System.used(home) System.usage(user) System.free_many() "
+              + " ".join(f"System.{call}" for call in CALLS),
+    "plain": "Plain(users,blocks) Plain.tree() Plain.copy_now() Plain.fallen() Plain.tick() Plain.fresh()"
+             " PlainFile(owner,time,numbers) " + " ".join(f"Plain.{call}" for call in CALLS),
+    "calls": "SIZES= is_call(thing) done(system,call) is_physical(answer)",
+    "plainstore": "PlainStore(home) PlainStore.home() PlainStore.put(changes) PlainStore.sync()",
+    "needs": "Room(blocks,dirs,rows,files) Room.told() Room.is_enough(need) Room.__eq__(other) free_room(system)"
+             " need_of_copy(system,kind,number) need_of_write(system,file,start,many) need_of_cut(system,file,size)",
+    "audits": "account(system) is_account(system,thing)",
+    "moving": "moved(home,shape,late) used_many(home,shape)",
+    "rebuilding": "calls_of(home,shape) without_times(tree)",
+    "scripts": "read_script(text) write_script(calls) answer_text(answer) run_script(system,text)",
+    "images": "write_image(shape,home) read_image(lines)",
 }
 
 
