@@ -29,11 +29,16 @@ def place_at(home, shape, thing):
     return dir_at(home, shape, number) if kind == DIR_KIND else row_at(home, shape, number)[:2]
 
 
+def check_free(home, shape, up, name):
+    """Refused by exists if something stands at a place."""
+    if child_of(home, shape, up, name) is not None:
+        raise Refused("exists")
+
+
 def free_place(home, shape, path):
     """The place (up, name's number) of a path's last name, where nothing stands."""
     up, name = place_of(home, shape, path)
-    if child_of(home, shape, up, name) is not None:
-        raise Refused("exists")
+    check_free(home, shape, up, name)
     return up, name
 
 
@@ -156,7 +161,7 @@ def copy_thing(draft, held, old, new, owner):
     check_moves(thing)
     up, name = place_of(home, shape, new)
     check_loop(home, shape, thing, up)
-    free_place(home, shape, new)
+    check_free(home, shape, up, name)
     kind, number = thing
     if kind == DIR_KIND:
         copy_dir(draft, held, number, up, name, owner, draft.tick())

@@ -102,11 +102,15 @@ class Plain:
             raise Refused("root")
         return self.walked(names[:-1]), names[-1]
 
+    def check_free(self, up, name):
+        """Refused by exists if something stands at a place."""
+        if name in self.dirs[up]:
+            raise Refused("exists")
+
     def free_place(self, path):
         """The pair (directory, name) of a path where nothing stands."""
         up, name = self.place_of(path)
-        if name in self.dirs[up]:
-            raise Refused("exists")
+        self.check_free(up, name)
         return up, name
 
     def found_at(self, path):
@@ -120,11 +124,9 @@ class Plain:
         return self.dirs[up][name]
 
     def thing_found(self, path):
-        """The entry of what a path leads to, which is neither the root nor found."""
+        """The pair (place, entry) of what a path leads to, which is neither the root nor found."""
         entry = self.found_at(path)
-        if entry in ((DIR, ROOT), (DIR, FOUND)):
-            raise Refused("root")
-        return entry
+        return self.place_of(path), entry
 
     def file_found(self, path):
         """The number of the file to which a path leads."""
@@ -146,6 +148,11 @@ class Plain:
             if kind == DIR:
                 below.extend(self.dirs_below(child))
         return below
+
+    def free(self, place):
+        """Nothing stands at a place any more."""
+        up, name = place
+        self.dirs[up].pop(name)
 
     def drop_unused(self, file):
         """A file that is in use no more goes."""
@@ -182,8 +189,7 @@ class Plain:
     def unlink(self, user, path):
         """A name goes; with the last one of a file that no handle holds, the file."""
         file = self.file_found(path)
-        up, name = self.place_of(path)
-        self.dirs[up].pop(name)
+        self.free(self.place_of(path))
         self.drop_unused(file)
         self.tick()
 
@@ -192,11 +198,10 @@ class Plain:
         kind, number = self.found_at(path)
         if kind == FILE:
             raise Refused("nodir")
-        self.thing_found(path)
+        place = self.place_of(path)
         if len(self.dirs[number]) > 0:
             raise Refused("notempty")
-        up, name = self.place_of(path)
-        self.dirs[up].pop(name)
+        self.free(place)
         self.dirs.pop(number)
         self.tick()
 
@@ -211,16 +216,15 @@ class Plain:
 
     def move(self, user, old, new):
         """A directory or a name of a file stands at another place, perhaps over what stood there."""
-        entry = self.thing_found(old)
+        first, entry = self.thing_found(old)
         up, name = self.place_of(new)
         self.check_loop(entry, up)
-        first = self.place_of(old)
         if first == (up, name):
             return
         over = self.dirs[up].get(name)
         if over is not None:
             self.check_over(entry, over)
-        self.dirs[first[0]].pop(first[1])
+        self.free(first)
         self.dirs[up][name] = entry
         if over is not None and over[0] == DIR:
             self.dirs.pop(over[1])
@@ -230,10 +234,10 @@ class Plain:
 
     def copy(self, user, old, new):
         """A copy of a file, or of a directory with all that lies beneath it, all files the user's."""
-        entry = self.thing_found(old)
+        _, entry = self.thing_found(old)
         up, name = self.place_of(new)
         self.check_loop(entry, up)
-        self.free_place(new)
+        self.check_free(up, name)
         self.dirs[up][name] = self.copy_of(entry, user, self.tick())
 
     def copy_of(self, entry, owner, time):

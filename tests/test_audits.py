@@ -82,6 +82,11 @@ class AccountTest(SystemCase):
         self.ok("end_view", 0, 1)
         self.assertEqual(self.check({0: first, 2: second})[0][1], (0, 2))
 
+    def test_views_by_their_numbers(self):
+        self.written(0, "/a", 9)
+        self.all_ok(("view", 0), ("view", 1), ("view", 0), ("end_view", 0, 0), ("view", 1))
+        self.assertEqual(self.check({0: {0, 1}, 1: {0, 1}, 2: {0, 1}})[0][1], (0, 1, 2))
+
     def test_blocks_that_only_a_view_reads(self):
         self.written(0, "/a", 9)
         self.ok("view", 1)

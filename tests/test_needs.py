@@ -157,6 +157,20 @@ class NeedsTest(SystemCase):
         self.ok("view", 0)
         self.assertEqual(self.cut_need("/a", 90), 2)
 
+    def test_a_cut_that_keeps_all_parts_there_are(self):
+        self.begin(Shape(2, 4, 4, 200, 2))
+        self.written(0, "/a", 600)
+        self.ok("copy", 1, path("/a"), path("/b"))
+        for size, need in ((600, 0), (593, 0), (592, 2), (585, 2), (584, 2), (544, 2), (536, 1)):
+            self.assertEqual(self.cut_need("/b", size), need, size)
+            free = self.system.free_many()
+            self.begin(self.shape, home=self.system.home())
+            number = self.opened(1, "/b")
+            self.ok("cut", 1, number, size)
+            self.assertEqual(self.system.free_many(), free - need)
+            self.all_ok(("unlink", 0, path("/b")), ("copy", 1, path("/a"), path("/b")), ("shut", 1, number))
+            self.assertEqual(self.system.free_many(), free)
+
     def test_sizes_beyond_the_greatest(self):
         self.ok("create", 0, path("/a"))
         self.assertEqual(self.cut_need("/a", 601), 0)

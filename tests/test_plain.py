@@ -92,6 +92,10 @@ class PlainTest(unittest.TestCase):
         self.assertEqual((late.handles.known, late.moments), ({}, {}))
         self.assertEqual([vars(file) for file in late.files.values()], [{"owner": 1, "time": 5, "numbers": (5, 7)}])
         self.assertEqual(len(self.plain.files), 2)
+        done(self.plain, ("unlink", 0, ("d", "f")))
+        self.assertEqual(self.plain.fallen().tree(), ((("d", "dir", ()),), (("g", "file", 0, 1, 5, (5, 7)),)))
+        done(self.plain, ("unlink", 0, ("found", "g")))
+        self.assertEqual((self.plain.fallen().files, len(self.plain.copy_now().files)), ({}, 2))
 
     def test_files_has_just_those_in_use(self):
         done(self.plain, ("shut", 0, 0))
@@ -108,6 +112,18 @@ class PlainTest(unittest.TestCase):
         done(plain, ("move", 0, ("a",), ("b",)))
         done(plain, ("move", 0, ("c",), ("e",)))
         self.assertEqual((len(plain.files), len(plain.dirs), [entry[0] for entry in plain.tree()[0]]), (1, 3, ["b", "e"]))
+
+    def test_directories_that_are_removed_go(self):
+        plain = plain_with(("make", 0, ("a",)), ("make", 0, ("a", "b")), ("remove", 0, ("a", "b")), ("remove", 0, ("a",)))
+        self.assertEqual(plain.dirs, {0: {}, 1: {}})
+
+    def test_limits(self):
+        for many in (0, 1, 30):
+            self.assertEqual(done(self.plain, ("limit", 0, 1, many)), ("ok", None))
+        for word, call in (("number", ("limit", 0, 1, -1)), ("number", ("limit", 0, 1, 31)), ("number", ("limit", 1, 0, True)),
+                           ("user", ("limit", 1, 2, -1)), ("denied", ("limit", 1, 1, 30))):
+            self.assertEqual(done(self.plain, call), ("no", word))
+        self.assertEqual(self.plain.clock, 10)
 
     def test_numbers_are_put_anew(self):
         (file,) = [file for file in self.plain.files.values() if file.owner == 1]
