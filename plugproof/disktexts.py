@@ -2,7 +2,7 @@
 
 from plugproof.disk import TORN, Disk
 from plugproof.errors import BadImage
-from plugproof.words import is_number_within, is_number_word, word_at
+from plugproof.words import is_number_within, is_short_number_word, word_at
 
 MOST_PLATES = 1000
 
@@ -29,7 +29,7 @@ def write_disk(disk):
 
 def is_value_word(word):
     """Whether a word tells what can stand on a plate."""
-    return word in ("torn", "empty") or all([is_number_word(part) for part in word.split(",")])
+    return word in ("torn", "empty") or all([is_short_number_word(part) for part in word.split(",")])
 
 
 def value_of(word):

@@ -124,7 +124,8 @@ class Handles:
 
     def unlock(self, user, number):
         """A handle has no lock from now on."""
-        self.handle(user, number).kind = NO_LOCK
+        handle = self.handle(user, number)
+        handle.kind = NO_LOCK
 
     def end(self, user, number):
         """A handle goes, and its lock; the file that it held."""

@@ -2,7 +2,7 @@
 
 from plugproof.disktexts import check_word
 from plugproof.shape import WIDTH, Shape
-from plugproof.words import is_number_within, is_number_word, word_at
+from plugproof.words import is_number_within, is_short_number_word, word_at
 
 FIRST_WORD = "shape"
 SHAPE_NUMBERS = 5
@@ -25,7 +25,7 @@ def write_image(shape, home):
 def read_numbers(line, words, many):
     """So many numbers behind the first word of a line; no word may stand behind them."""
     for place in range(1, many + 1):
-        check_word(is_number_word(word_at(words, place)), line, place)
+        check_word(is_short_number_word(word_at(words, place)), line, place)
     check_word(len(words) == many + 1, line, many + 1)
     return tuple([int(word) for word in words[1:]])
 

@@ -271,11 +271,11 @@ class Plain:
 
     def give(self, user, path, owner):
         """A file gets another owner."""
-        file = self.file_found(path)
+        file = self.files[self.file_found(path)]
         self.check_user(owner)
         if user != 0:
             raise Refused("denied")
-        self.files[file].owner = owner
+        file.owner = owner
         self.tick()
 
     def limit(self, user, other, many):
@@ -318,12 +318,13 @@ class Plain:
         self.put_numbers(handle.file, ahead + tuple(numbers) + old[end:])
         handle.at = end
 
-    def put_numbers(self, file, numbers):
+    def put_numbers(self, number, numbers):
         """A file's numbers are put anew."""
         if len(numbers) > MOST_SIZE:
             raise Refused("long")
-        self.files[file].numbers = numbers
-        self.files[file].time = self.tick()
+        file = self.files[number]
+        file.numbers = numbers
+        file.time = self.tick()
 
     def seek(self, user, number, at):
         """A handle stands at this place from now on."""

@@ -4,7 +4,8 @@ from plugproof.calls import done
 from plugproof.errors import BadScript
 from plugproof.handles import KINDS, MODES
 from plugproof.names import is_path
-from plugproof.words import is_number_word, word_at
+from plugproof.shape import is_whole
+from plugproof.words import is_number_word, number_text, number_told, word_at
 
 PATH = "path"
 NUMBER = "number"
@@ -25,20 +26,22 @@ NOTHING = "-"
 
 def numbers_text(numbers):
     """The word of a row of numbers."""
-    return ",".join([str(number) for number in numbers]) if len(numbers) > 0 else NOTHING
+    return ",".join([number_text(number) for number in numbers]) if len(numbers) > 0 else NOTHING
 
 
 def word_of(form, thing):
     """The word that tells one thing of a call."""
     if form == PATH:
         return "/" + "/".join(thing)
-    return numbers_text(thing) if form == NUMBERS else str(thing)
+    if form == NUMBER:
+        return number_text(thing)
+    return numbers_text(thing) if form == NUMBERS else thing
 
 
 def line_of(call):
     """The line of a call."""
     words = [word_of(form, thing) for form, thing in zip(FORMS[call[0]], call[2:])]
-    return " ".join([str(call[1]), call[0]] + words)
+    return " ".join([number_text(call[1]), call[0]] + words)
 
 
 def write_script(calls):
@@ -77,9 +80,9 @@ def thing_of(form, word):
     if form == PATH:
         return names_of(word)
     if form == NUMBER:
-        return int(word)
+        return number_told(word)
     if form == NUMBERS:
-        return () if word == NOTHING else tuple([int(part) for part in word.split(",")])
+        return () if word == NOTHING else tuple([number_told(part) for part in word.split(",")])
     return word
 
 
@@ -92,9 +95,9 @@ def check_word(holds, line, word):
 def read_line(line, words):
     """The call that the words of a line tell."""
     user, word = word_at(words, 0), word_at(words, 1)
-    check_word(is_number_word(user) and int(user) >= 0, line, 0)
+    check_word(is_number_word(user) and number_told(user) >= 0, line, 0)
     check_word(word in FORMS, line, 1)
-    call = (word, int(user))
+    call = (word, number_told(user))
     for form in FORMS[word]:
         place = len(call)
         check_word(can_stand(form, word_at(words, place)), line, place)
@@ -115,7 +118,7 @@ def value_text(value):
         return NOTHING
     if isinstance(value, tuple):
         return "(" + " ".join([value_text(inner) for inner in value]) + ")"
-    return str(value)
+    return number_text(value) if is_whole(value) else str(value)
 
 
 def answer_text(answer):

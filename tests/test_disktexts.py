@@ -98,7 +98,7 @@ class ReadTest(unittest.TestCase):
         for text, word in (
             ("", 0), ("Disk 3", 0), ("disks 3", 0), ("shape 3", 0), ("plate 0 1", 0), (" disk 3", 0), ("disk\t3", 0),
             ("disk", 1), ("disk ", 1), ("disk  3", 1), ("disk 0", 1), ("disk 1001", 1), ("disk -1", 1), ("disk -0", 1),
-            ("disk 03", 1), ("disk +3", 1), ("disk x", 1), ("disk 3,", 1), ("disk " + NINES, 1), ("disk 9" + NINES, 1),
+            ("disk 03", 1), ("disk +3", 1), ("disk x", 1), ("disk 3,", 1), ("disk " + NINES, 1), ("disk 9" + NINES, 1), ("disk 9" + NINES * 2, 1),
             ("disk 3 ", 2), ("disk 3 4", 2), ("disk 3 4 5", 2), ("disk \u00b3", 1), ("disk 1_0", 1), ("disk 3\n", 1),
         ):
             self.bad((text,), 0, word)
@@ -148,7 +148,7 @@ class ReadTest(unittest.TestCase):
         for text in (NINES, "-" + NINES, "1," + NINES):
             disk = read_disk(("disk 1", "plate 0 " + text))
             self.assertEqual(disk.settled, (tuple(int(word) for word in text.split(",")),))
-        for text in ("9" + NINES, "-9" + NINES, NINES + ",9" + NINES, "0" + NINES[1:]):
+        for text in ("9" + NINES, "-9" + NINES, NINES + ",9" + NINES, "0" + NINES[1:], "9" * 4301, "-" + NINES * 2, "1," + NINES * 2):
             self.bad(("disk 1", "plate 0 " + text), 1, 2)
             self.bad(("disk 1", "loose 0 " + text), 1, 2)
 

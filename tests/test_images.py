@@ -145,6 +145,13 @@ class BadImageTest(unittest.TestCase):
         for more in (" 9", " ", " x", "  "):
             self.bad((FIRST, " ".join(words) + more), 1, 9)
 
+    def test_figures(self):
+        for figures in (4001, 4300, 4301, 5000):
+            for word in ("9" * figures, "-" + "9" * figures):
+                self.bad((FIRST, "5 1 2 3 4 5 6 7 " + word), 1, 8)
+                self.bad((FIRST, word + " 1 2 3 4 5 6 7 8"), 1, 0)
+                self.bad(("shape 4 4 " + word + " 6 2",), 0, 3)
+
     def test_empty_lines_and_blanks(self):
         self.bad(("",), 0, 0)
         self.bad((FIRST, ""), 1, 0)

@@ -132,6 +132,44 @@ def bound_names(tree):
     return names
 
 
+def parameters_of(arguments):
+    stars = [argument for argument in (arguments.vararg, arguments.kwarg) if argument is not None]
+    return {argument.arg for argument in arguments.posonlyargs + arguments.args + arguments.kwonlyargs + stars}
+
+
+def variables_of(nodes):
+    """What rows of a function bind themselves; what is nested in them and has variables of its own does not count."""
+    names = set()
+    for node in nodes:
+        if isinstance(node, (ast.FunctionDef, ast.ClassDef, ast.Lambda)):
+            continue
+        if isinstance(node, (ast.ListComp, ast.SetComp, ast.DictComp, ast.GeneratorExp)):
+            names |= {inner.target.id for inner in ast.walk(node) if isinstance(inner, ast.NamedExpr)}
+            continue
+        if isinstance(node, ast.Name) and isinstance(node.ctx, ast.Store):
+            names.add(node.id)
+        elif isinstance(node, (ast.MatchAs, ast.MatchStar, ast.ExceptHandler)) and node.name is not None:
+            names.add(node.name)
+        names |= variables_of(ast.iter_child_nodes(node))
+    return names
+
+
+def rows_past_local_names(node, local=frozenset()):
+    """The numbers of the rows that assign an attribute through anything but a parameter or a local variable."""
+    rows = []
+    for child in ast.iter_child_nodes(node):
+        inner = local
+        if isinstance(child, (ast.FunctionDef, ast.Lambda)):
+            inner = local | parameters_of(child.args)
+        if isinstance(child, ast.FunctionDef):
+            inner = inner | variables_of(child.body)
+        if isinstance(child, ast.Attribute) and not isinstance(child.ctx, ast.Load):
+            if not isinstance(child.value, ast.Name) or child.value.id not in local:
+                rows.append(child.lineno)
+        rows += rows_past_local_names(child, inner)
+    return rows
+
+
 def methods_of(tree):
     classes = [node for node in ast.walk(tree) if isinstance(node, ast.ClassDef)]
     return {(owner.name, node.name) for owner in classes for node in owner.body if isinstance(node, ast.FunctionDef)}
@@ -294,6 +332,49 @@ class WordsTest(unittest.TestCase):
                     self.assertIsNotNone(ast.get_docstring(node), f"{path.name}: {node.name}")
                 if isinstance(node, ast.FunctionDef) and not node.name.startswith("_"):
                     self.assertIsNotNone(ast.get_docstring(node), f"{path.name}: {node.name}")
+
+
+class AttributesTest(unittest.TestCase):
+    """L18: attributes are assigned through a local name, never on a class or on a module-level name."""
+
+    THROUGH_A_LOCAL_NAME = (
+        "def put(self):\n    self.kind = 1", "def put(box):\n    box.many += 1", "def put(*, box):\n    box.many = 1",
+        "def put(*box, **more):\n    box.many = more.many = 1", "def put(box, /):\n    box.many: int = 1",
+        "def put():\n    box = made()\n    box.many = 1", "def put(boxes):\n    for box in boxes:\n        box.many, box.few = 1, 2",
+        "def put():\n    with made() as box:\n        box.many = 1", "def put():\n    if box := made():\n        box.many = 1",
+        "def put(boxes):\n    rows = [late for box in boxes if (late := box)]\n    late.many = rows",
+        "def put(box):\n    def inner():\n        box.many = 1\n    inner()", "class Box:\n    def put(self):\n        self.many = 1",
+        "def put(boxes):\n    match boxes:\n        case [box, *more]:\n            box.many = more.many = 1",
+        "def put(box):\n    box.rows[0] = made().many", "def put():\n    made().rows[0] = 1", "def put(box):\n    box.rows[0].put(1)",
+    )
+    THROUGH_SOMETHING_ELSE = (
+        ("def put(self, user):\n    self.handle(user).kind = 1", [2]), ("def put():\n    made().many += 1", [2]),
+        ("def put():\n    made().many: int = 1", [2]), ("def put(box):\n    box.many = made(box).many = 1", [2]),
+        ("def put(box):\n    box.many, (box.few, made(box).few) = 1, (2, 3)", [2]), ("def put(self):\n    self.rows[0].many = 1", [2]),
+        ("def put(self):\n    self.box.many = 1", [2]), ("def put(one, two):\n    (one or two).many = 1", [2]),
+        ("def put(rows):\n    for made().many in rows:\n        pass", [2]), ("def put():\n    with made() as made().many:\n        pass", [2]),
+        ("def put(rows):\n    return [1 for made().many in rows]", [2]), ("def put():\n    del made().many", [2]),
+        ("class Box:\n    def put(self):\n        Box.many = 1", [3]), ("BOX = None\n\n\ndef put():\n    BOX.many = 1", [5]),
+        ("from plugproof.store import made\n\n\ndef put():\n    made.many = 1", [5]), ("def put():\n    put.many = 1", [2]),
+        ("box = made()\nbox.many = 1", [2]), ("class Box:\n    box.many = 1", [2]),
+        ("def put(boxes):\n    rows = [box for box in boxes]\n    box.many = rows", [3]),
+        ("def put():\n    def inner(box):\n        late = box\n    box.many = 1\n    late.many = inner", [4, 5]),
+        ("def put(box):\n    box.many = 1\n\n\ndef late():\n    box.many = 1\n    made().many = 1", [6, 7]),
+    )
+
+    def test_no_row_of_the_package_assigns_one_through_anything_else(self):
+        for path, tree in trees():
+            self.assertEqual(rows_past_local_names(tree), [], path.name)
+
+    def test_such_rows_are_found(self):
+        for text, rows in self.THROUGH_SOMETHING_ELSE:
+            with self.subTest(text=text):
+                self.assertEqual(rows_past_local_names(ast.parse(text)), rows)
+
+    def test_no_other_rows_are_found(self):
+        for text in self.THROUGH_A_LOCAL_NAME:
+            with self.subTest(text=text):
+                self.assertEqual(rows_past_local_names(ast.parse(text)), [])
 
 
 class InterfaceTest(unittest.TestCase):

@@ -164,6 +164,77 @@ class BadScriptTest(unittest.TestCase):
             self.assertEqual((caught.exception.line, caught.exception.word), (0, 1))
 
 
+class LongNumbersTest(unittest.TestCase):
+    """No number of a script or of an answer has too many figures; what is told of one too long to show is told by whether."""
+
+    def pairs(self):
+        """Whole numbers, and how they are written."""
+        for figures in (1, 63, 64, 65, 127, 128, 129, 639, 640, 641, 3999, 4000, 4001, 4299, 4300, 4301, 5000, 20000):
+            yield 10 ** figures - 1, "9" * figures
+            yield 1 - 10 ** figures, "-" + "9" * figures
+            yield 10 ** figures, "1" + "0" * figures
+            yield -7 * 10 ** figures - 8, "-7" + "0" * (figures - 1) + "8"
+            yield 12 * (10 ** (2 * figures) - 1) // 99, "12" * figures
+
+    def same(self, call, line):
+        text = write_script((call,))
+        calls = read_script(line)
+        self.assertTrue(text == line, line[:50])
+        self.assertTrue(calls == (call,), line[:50])
+        self.assertTrue(all(type(thing) in (int, str, tuple) for thing in calls[0]))
+
+    def test_each_place_of_a_number(self):
+        for number, word in self.pairs():
+            self.same(("write", 0, 0, (number,)), "0 write 0 " + word)
+            self.same(("write", 0, 0, (5, number, -3, number, 0)), f"0 write 0 5,{word},-3,{word},0")
+            self.same(("write", 1, number, ()), f"1 write {word} -")
+            self.same(("limit", 0, number, number), f"0 limit {word} {word}")
+            self.same(("give", 0, ("found", "a"), number), "0 give /found/a " + word)
+            self.same(("cut", 2, number, 9), f"2 cut {word} 9")
+            self.same(("view_read", 0, number, ("a",)), f"0 view_read {word} /a")
+            if number > 0:
+                self.same(("sync", number), word + " sync")
+
+    def test_more_lines(self):
+        number = 10 ** 4400
+        calls = (("sync", number), ("write", 0, 0, (number, -number)), ("seek", 1, -number, 1))
+        self.assertTrue(read_script(write_script(calls)) == calls)
+
+    def test_long_words_that_are_no_numbers(self):
+        for nines in ("9" * 64, "9" * 4000, "9" * 4001, "9" * 4301, "9" * 9000):
+            words = ("0" + nines, "-0" + nines, "+" + nines, "--" + nines, nines + "x", "x" + nines, nines + "-", nines + "\u0661",
+                     nines + "_" + nines, nines + ".0", nines + "\t", "0" * len(nines), "-" + "0" * len(nines), nines + "\u00b2")
+            for word in words:
+                self.bad("0 write 0 " + word, 3)
+                self.bad(f"0 write 0 5,{word},{nines}", 3)
+                self.bad(f"0 write {word} -", 2)
+                self.bad(f"0 read 0 {word}", 3)
+                self.bad(word + " sync", 0)
+            self.bad("-" + nines + " sync", 0)
+            self.bad(f"0 write 0 {nines},", 3)
+            self.bad(f"0 write 0 {nines} {nines}", 4)
+
+    def bad(self, text, word):
+        with self.assertRaises(BadScript) as caught:
+            read_script("0 view\n" + text)
+        self.assertEqual((caught.exception.line, caught.exception.word), (1, word), text[:50])
+
+    def test_answers(self):
+        for number, word in self.pairs():
+            self.assertTrue(answer_text(("ok", number)) == "ok " + word)
+            self.assertTrue(answer_text(("ok", (number,))) == f"ok ({word})")
+            self.assertTrue(answer_text(("ok", (None, (number, 0), "a", number))) == f"ok (- ({word} 0) a {word})")
+
+    def test_run(self):
+        word = "9" * 5000
+        script = ("0 create /a", "0 open /a write", f"0 write 0 {word},7,-{word}0", "0 seek 0 0", "0 read 0 9", f"0 read 0 {word}",
+                  f"0 read {word} 1", f"0 read 0 -{word}", f"0 cut 0 {word}", f"0 limit 0 {word}", f"{word} sync", "0 view", "0 view_read 0 /a")
+        read = f"ok ({word} 7 -{word}0)"
+        answers = ("ok -", "ok 0", "ok -", "ok -", read, "ok ()", "no handle", "no number", "no long", "no number", "no user", "ok 0", read)
+        for system in (watched(Shape(6, 9, 6, 40, 2)), Plain(2, 40)):
+            self.assertTrue(run_script(system, "\n".join(script)) == "\n".join(answers))
+
+
 class AnswersTest(unittest.TestCase):
     def test_texts(self):
         for answer, text in (
